@@ -1,0 +1,1 @@
+"""Bendfronts: drawings that bend back. Import from the modules of this package."""

@@ -1,0 +1,72 @@
+"""Drawings that several tests share, and the short drawings, one by one."""
+
+B, C, E = "born", "cross", "end"
+
+LETTERS = {"b": B, "c": C, "e": E}
+
+
+def told(text):
+    """A drawing out of letters such as `b0 c1 e0`."""
+    return [(LETTERS[word[0]], int(word[1:])) for word in text.split()]
+
+
+EMPTY = ""
+ROUND = "b0 e0"
+TREFOIL = "b0 b2 c1 c1 c1 e0 e0"
+ZIGZAG = "b0 b1 e0 e0"
+CURLED = "b0 b0 c1 e0 e0"
+ODD_LINK = "b0 b2 c1 c1 e0 e0"
+EVEN_LINK = "b0 b1 c0 c0 e1 e0"
+THREE_BIRTHS = "b0 b0 b0 e1 e2 e0"
+
+SAMPLES = (EMPTY, ROUND, TREFOIL, ZIGZAG, CURLED, ODD_LINK, EVEN_LINK, THREE_BIRTHS)
+
+
+def letters_at(many):
+    """All letters that can stand where there are so many strands."""
+    found = [(B, k) for k in range(many + 1)]
+    for kind in (C, E):
+        found += [(kind, k) for k in range(many - 1)]
+    return found
+
+
+def short_drawings(longest, begun=(), many=0):
+    """All drawings of at most so many letters."""
+    if many == 0:
+        yield list(begun)
+    room = longest - len(begun)
+    for kind, k in letters_at(many):
+        then = many + {B: 2, C: 0, E: -2}[kind]
+        if then // 2 <= room - 1:
+            yield from short_drawings(longest, begun + ((kind, k),), then)
+
+
+def lists_within(thing):
+    """Every list in a thing, itself too, once for each place where it stands."""
+    found = []
+    if isinstance(thing, list):
+        found.append(thing)
+    if isinstance(thing, (list, tuple)):
+        for part in thing:
+            found += lists_within(part)
+    return found
+
+
+def check_own(case, ask, drawing):
+    """That an answer is the asker's own, and that what was handed in stays as it was."""
+    handed = list(drawing)
+    first = ask(handed)
+    case.assertEqual(handed, drawing, "what was handed in was changed")
+    kept = repr(first)
+    second = ask(handed)
+    lists = lists_within(first) + lists_within(second) + [handed]
+    case.assertEqual(len({id(one) for one in lists}), len(lists), "a list stands at two places")
+    for one in lists_within(first):
+        one.append("mine")
+    case.assertEqual(repr(second), kept, "an answer hangs on another one")
+    case.assertEqual(repr(ask(handed)), kept, "a later answer hangs on a changed one")
+    handed.clear()
+    case.assertEqual(repr(second), kept, "an answer hangs on what was handed in")
+    ask([(B, 0), (E, 0)])
+    case.assertEqual(repr(second), kept, "an answer hangs on what was asked later")
+    case.assertEqual(repr(ask(list(drawing))), kept)
