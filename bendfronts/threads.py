@@ -93,23 +93,28 @@ def to_right(drawing):
     return rightward
 
 
-def turns_of_tour(tour, uppers):
-    """The turns of a piece: half of how many more steps it has one way than the other."""
-    downs = 0
-    for at in range(0, len(tour), 2):
-        rightward, leftward = tour[at], tour[at + 1]
-        # A piece leaves a rightward thread at its end and a leftward one at its birth.
-        downs += 1 if uppers[rightward] else -1
-        downs += 1 if leftward < born_with(leftward) else -1
-    return abs(downs) // 2
-
-
-def turns(drawing):
-    """The turns of each piece."""
+def uppers_at_ends(drawing):
+    """For each thread whether it is the upper one at its end."""
     uppers = [False] * (2 * len(ends_of(drawing)))
     for upper, lower in end_pairs(drawing):
         uppers[upper] = True
-    return [turns_of_tour(tour, uppers) for tour in tours(drawing)]
+    return uppers
+
+
+def steps_down(tour, uppers):
+    """For each thread of a tour the step by which one leaves it: 1 down, -1 up."""
+    steps = []
+    for at, thread in enumerate(tour):
+        # A rightward thread is left at its end, a leftward one (every second one) at its birth.
+        upper = thread < born_with(thread) if at & 1 else uppers[thread]
+        steps.append(1 if upper else -1)
+    return steps
+
+
+def turns(drawing):
+    """The turns of each piece: half of how many more steps it has one way than the other."""
+    uppers = uppers_at_ends(drawing)
+    return [abs(sum(steps_down(tour, uppers))) // 2 for tour in tours(drawing)]
 
 
 def twists(drawing):

@@ -1,4 +1,6 @@
-"""Drawings that several tests share, and the short drawings, one by one."""
+"""Drawings that several tests share, the short drawings, one by one, and the greatest ones, some of them."""
+
+import random
 
 B, C, E = "born", "cross", "end"
 
@@ -41,6 +43,40 @@ def short_drawings(longest, begun=(), many=0):
             yield from short_drawings(longest, begun + ((kind, k),), then)
 
 
+def random_drawing(chance):
+    """A drawing of four to eight births and twelve crossings, at random."""
+    births, crossings, many, drawing = chance.randint(4, 8), 12, 0, []
+    while births or crossings or many:
+        kinds = []
+        if births and many < 8:
+            kinds += [B] * births
+        if many:
+            kinds += [C] * crossings
+            # While crossings are still due the last strands stay.
+            if many > 2 or births or not crossings:
+                kinds += [E] * 2
+        kind = chance.choice(kinds)
+        k = chance.randrange(many + 1 if kind == B else many - 1)
+        drawing.append((kind, k))
+        births -= kind == B
+        crossings -= kind == C
+        many += {B: 2, C: 0, E: -2}[kind]
+    return drawing
+
+
+def greatest_drawings(many, fits=lambda drawing: True):
+    """So many drawings of four births or more, eight strands and twelve crossings, always the same ones."""
+    chance, found = random.Random(7), []
+    while len(found) < many:
+        drawing = random_drawing(chance)
+        held = [0]
+        for kind, k in drawing:
+            held.append(held[-1] + {B: 2, C: 0, E: -2}[kind])
+        if max(held) == 8 and fits(drawing):
+            found.append(drawing)
+    return found
+
+
 def lists_within(thing):
     """Every list in a thing, itself too, once for each place where it stands."""
     found = []
@@ -52,7 +88,7 @@ def lists_within(thing):
     return found
 
 
-def check_own(case, ask, drawing):
+def check_own(case, ask, drawing, later=((B, 0), (E, 0))):
     """That an answer is the asker's own, and that what was handed in stays as it was."""
     handed = list(drawing)
     first = ask(handed)
@@ -67,6 +103,6 @@ def check_own(case, ask, drawing):
     case.assertEqual(repr(ask(handed)), kept, "a later answer hangs on a changed one")
     handed.clear()
     case.assertEqual(repr(second), kept, "an answer hangs on what was handed in")
-    ask([(B, 0), (E, 0)])
+    ask(list(later))
     case.assertEqual(repr(second), kept, "an answer hangs on what was asked later")
     case.assertEqual(repr(ask(list(drawing))), kept)

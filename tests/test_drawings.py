@@ -2,7 +2,9 @@ import itertools
 import unittest
 
 from bendfronts.drawings import crossings_of, ends_of, is_drawing, names_of, strands
-from samples import B, C, E, ROUND, SAMPLES, THREE_BIRTHS, TREFOIL, check_own, short_drawings, told
+from samples import (
+    B, C, E, ROUND, SAMPLES, THREE_BIRTHS, TREFOIL, check_own, greatest_drawings, short_drawings, told,
+)
 
 
 def drawn_by_hand(letters):
@@ -64,6 +66,14 @@ class IsDrawing(unittest.TestCase):
         four = "b0 b2 b4 b6 c1 c3 c5 c1 c3 c5 e6 e4 e2 e0 "
         self.yes(told(four * 2))
         self.no(told(four * 2 + "b0 e0"))
+
+    def test_some_of_the_greatest_drawings(self):
+        for drawing in greatest_drawings(100):
+            self.yes(drawing)
+            at = strands(drawing).index(8)
+            self.no(drawing[:at] + [(C, 0)] + drawing[at:])
+            self.no(drawing[:at] + [(B, 8), (E, 8)] + drawing[at:])
+            self.no(drawing[:-1])
 
     def test_where_a_birth_can_stand(self):
         self.no(told("b-1 e0"))
@@ -140,6 +150,17 @@ class Told(unittest.TestCase):
             self.assertEqual(crossings_of(told(text)), crossings)
             self.assertEqual(ends_of(told(text)), ends)
             self.assertEqual(names_of(told(text)), names)
+
+    def test_some_of_the_greatest_drawings(self):
+        for drawing in greatest_drawings(100):
+            kinds = [kind for kind, k in drawing]
+            ahead = [kinds[:t] for t in range(len(drawing) + 1)]
+            self.assertEqual(strands(drawing), [2 * (row.count(B) - row.count(E)) for row in ahead])
+            self.assertEqual(max(strands(drawing)), 8)
+            self.assertEqual(crossings_of(drawing), [t for t, kind in enumerate(kinds) if kind == C])
+            self.assertEqual(len(crossings_of(drawing)), 12)
+            self.assertEqual(ends_of(drawing), [t for t, kind in enumerate(kinds) if kind == E])
+            self.assertEqual(names_of(drawing), sorted(crossings_of(drawing) + ends_of(drawing)))
 
     def test_beyond_the_bounds_nothing_is_refused(self):
         long = told("b0 c0 e0 " * 20)

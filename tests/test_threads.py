@@ -3,7 +3,7 @@ import unittest
 from bendfronts.threads import pieces, threads, to_right, turns, twists
 from samples import (
     B, C, CURLED, E, EMPTY, EVEN_LINK, ODD_LINK, ROUND, SAMPLES, THREE_BIRTHS, TREFOIL, ZIGZAG,
-    check_own, short_drawings, told,
+    check_own, greatest_drawings, short_drawings, told,
 )
 
 # Two zigzags on one strand, both down, or the one down and the other one up.
@@ -22,10 +22,15 @@ MOVED = (
 )
 
 
-def joins(drawing):
-    """The pairs (upper, lower) of threads born together, and of those ending together, in order."""
-    row, born, ended, many = [], [], [], 0
+def short_and_greatest():
+    return list(short_drawings(7)) + greatest_drawings(200)
+
+
+def rows_and_joins(drawing):
+    """The threads at each place, and the pairs (upper, lower) of those born, and of those ending, together."""
+    row, born, ended, many, rows = [], [], [], 0, []
     for kind, k in drawing:
+        rows.append(row)
         if kind == B:
             row = row[:k] + [many, many + 1] + row[k:]
             born.append((many, many + 1))
@@ -35,12 +40,12 @@ def joins(drawing):
         else:
             ended.append((row[k], row[k + 1]))
             row = row[:k] + row[k + 2:]
-    return born, ended
+    return rows + [row], born, ended
 
 
 def pieces_by_hand(drawing):
     """Each thread's piece: labels are lowered across joins till nothing changes, then numbered in order."""
-    born, ended = joins(drawing)
+    rows, born, ended = rows_and_joins(drawing)
     label = list(range(2 * len(born)))
     changed = True
     while changed:
@@ -55,7 +60,7 @@ def pieces_by_hand(drawing):
 
 def steps_by_hand(drawing):
     """For each piece all its steps as it is gone along, 1 down and -1 up; and the threads gone to the right."""
-    born, ended = joins(drawing)
+    rows, born, ended = rows_and_joins(drawing)
     told_pieces = pieces_by_hand(drawing)
     found, rightward = [], []
     for piece in sorted(set(told_pieces)):
@@ -97,6 +102,11 @@ class Threads(unittest.TestCase):
     def test_numbers_go_on_behind_ends(self):
         self.assertEqual(threads(told("b0 e0 b0 b2 e2 e0")), [[], [0, 1], [], [2, 3], [2, 3, 4, 5], [2, 3], []])
 
+    def test_all_short_and_some_of_the_greatest_drawings(self):
+        for drawing in short_and_greatest():
+            if threads(drawing) != rows_and_joins(drawing)[0]:
+                self.fail(drawing)
+
 
 class Pieces(unittest.TestCase):
     def check(self, text, due):
@@ -124,8 +134,8 @@ class Pieces(unittest.TestCase):
         self.check("b0 b2 c1 c1 e2 e0", [0, 0, 1, 1])
         self.check("b0 b2 c1 e0 e0", [0, 0, 0, 0])
 
-    def test_all_short_drawings(self):
-        for drawing in short_drawings(7):
+    def test_all_short_and_some_of_the_greatest_drawings(self):
+        for drawing in short_and_greatest():
             if pieces(drawing) != pieces_by_hand(drawing):
                 self.fail(drawing)
 
@@ -160,8 +170,8 @@ class Turns(unittest.TestCase):
         self.check("b0 b1 b2 e0 e0 e0", [1, 0])
         self.check("b0 e0 b0 c0 e0 " + TWICE_DOWN, [0, 1, 2])
 
-    def test_all_short_drawings(self):
-        for drawing in short_drawings(7):
+    def test_all_short_and_some_of_the_greatest_drawings(self):
+        for drawing in short_and_greatest():
             steps = steps_by_hand(drawing)[0]
             due = [abs(one.count(1) - one.count(-1)) // 2 for one in steps]
             if turns(drawing) != due:
@@ -189,8 +199,8 @@ class ToRight(unittest.TestCase):
         for text in SAMPLES:
             self.assertLessEqual({type(one) for one in to_right(told(text))}, {bool})
 
-    def test_all_short_drawings(self):
-        for drawing in short_drawings(7):
+    def test_all_short_and_some_of_the_greatest_drawings(self):
+        for drawing in short_and_greatest():
             rightward = steps_by_hand(drawing)[1]
             if to_right(drawing) != [one in rightward for one in range(len(pieces(drawing)))]:
                 self.fail(drawing)
@@ -221,8 +231,8 @@ class Twists(unittest.TestCase):
     def test_even_and_odd_crossings(self):
         self.check("b0 b2 c1 c1 c1 c0 e0 e0", 3 - 1 - 2)
 
-    def test_all_short_drawings(self):
-        for drawing in short_drawings(7):
+    def test_all_short_and_some_of_the_greatest_drawings(self):
+        for drawing in short_and_greatest():
             rightward = steps_by_hand(drawing)[1]
             due = -[kind for kind, k in drawing].count(E)
             for (kind, k), row in zip(drawing, threads(drawing)):
