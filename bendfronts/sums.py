@@ -15,22 +15,26 @@ def is_sum(thing):
     return all([word < onward for word, onward in zip(thing, thing[1:])])
 
 
-def odd_words(words):
-    """The sum of the words that come an odd number of times."""
-    odd = {}
+def put(odd, words):
+    """Puts words to those that came an odd number of times so far, the keys of a dict."""
     for word in words:
         if word in odd:
             del odd[word]
         else:
             odd[word] = True
-    return sorted(odd)
 
 
 def added(one, other):
     """The words that stand in just one of two sums."""
-    return odd_words(one + other)
+    odd = {}
+    put(odd, one)
+    put(odd, other)
+    return sorted(odd)
 
 
 def multiplied(one, other):
     """Each word of the one sum with each word of the other one behind it."""
-    return odd_words([word + behind for word in one for behind in other])
+    odd = {}
+    for word in one:
+        put(odd, [word + behind for behind in other])
+    return sorted(odd)

@@ -77,6 +77,58 @@ def greatest_drawings(many, fits=lambda drawing: True):
     return found
 
 
+def tangled(row, k):
+    """Whether the two pairs of which k and k + 1 are come in turn; a row tells for each strand its pair."""
+    both = [pair for pair in row if pair in (row[k], row[k + 1])]
+    return both[0] == both[2]
+
+
+def banded_letters(row, births, crossings):
+    """The letters by which a drawing that shall have a banding goes on, the likelier ones more often."""
+    alike = [k for k in range(len(row) - 1) if row[k] == row[k + 1]]
+    unlike = [k for k in range(len(row) - 1) if row[k] != row[k + 1]]
+    found = []
+    if births and len(row) < 8:
+        found += [(B, k) for k in range(len(row) + 1)] * 3
+    if crossings:
+        found += [(C, k) for k in unlike] * 2
+    # While crossings are still due the last four strands stay.
+    if len(row) > 4 or births or not crossings:
+        found += [(E, k) for k in alike]
+    return found
+
+
+def banded_drawing(chance, births, crossings):
+    """A drawing of so many births and crossings that has a banding by the scale 1; None where none came."""
+    row, drawing = [], []
+    while births or crossings or row:
+        letters = banded_letters(row, births, crossings)
+        if not letters:
+            return None
+        kind, k = chance.choice(letters)
+        drawing.append((kind, k))
+        if kind == B:
+            row[k:k] = [births, births]
+            births -= 1
+        elif kind == E:
+            del row[k:k + 2]
+        else:
+            crossings -= 1
+            if tangled(row, k) or chance.random() < 0.5:
+                row[k], row[k + 1] = row[k + 1], row[k]
+    return drawing
+
+
+def banded_drawings(many, births, crossings, fits=lambda drawing: True):
+    """So many drawings that have bandings, of births and crossings out of two ranges, always the same ones."""
+    chance, found = random.Random(8), []
+    while len(found) < many:
+        drawing = banded_drawing(chance, chance.choice(births), chance.choice(crossings))
+        if drawing is not None and fits(drawing):
+            found.append(drawing)
+    return found
+
+
 def lists_within(thing):
     """Every list in a thing, itself too, once for each place where it stands."""
     found = []
