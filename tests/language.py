@@ -194,6 +194,46 @@ def name_faults(tree):
     return found
 
 
+def shadow_faults(tree):
+    """Parameters, variables and nested functions that have the name of a class or an import of their file."""
+    taken = [node.name for node in tree.body if isinstance(node, ast.ClassDef)]
+    for node in tree.body:
+        if isinstance(node, ast.ImportFrom):
+            taken += [one.asname or one.name for one in node.names]
+    bound = []
+    for node in tree.body:
+        if isinstance(node, (ast.FunctionDef, ast.ClassDef)):
+            inner = names_bound(node)
+            inner.remove(node.name)
+            bound += inner
+    return [f"L15 {name} is a class or an import" for name in sorted(set(bound)) if name in taken]
+
+
+def attribute_faults(trees):
+    """Names that are a method in one class and an attribute in another, and attributes that no class assigns."""
+    methods, found = own_methods(trees), []
+    nodes = [node for tree in trees for node in ast.walk(tree) if isinstance(node, ast.Attribute)]
+    calls = [node.func for tree in trees for node in ast.walk(tree) if isinstance(node, ast.Call)]
+    assigned = {node.attr for node in nodes if isinstance(node.ctx, ast.Store)}
+    found += [f"L18 {name} is a method and an attribute" for name in sorted(assigned) if name in methods]
+    for node in nodes:
+        if isinstance(node.ctx, ast.Load) and node not in calls and node.attr not in assigned:
+            found.append(f"L18 .{node.attr} is assigned by no class")
+    return found
+
+
+def count_faults(tree, functions):
+    """Calls of own functions, by their names, that pass more or less than these take."""
+    found = []
+    for node in ast.walk(tree):
+        if isinstance(node, ast.Call) and isinstance(node.func, ast.Name) and node.func.id in functions:
+            takes = functions[node.func.id].args
+            many = len(node.args) + len(node.keywords)
+            if not len(takes.args) - len(takes.defaults) <= many <= len(takes.args):
+                found.append(f"L22 line {node.lineno}: {node.func.id}")
+    return found
+
+
 def call_faults(tree, own):
     """Calls of methods that are neither allowed ones of builtin values nor own ones."""
     found = []
@@ -239,10 +279,13 @@ def package_faults(files):
     trees = {module: ast.parse(text) for module, text in files.items()}
     defined = {module: defined_in(tree) for module, tree in trees.items()}
     own = own_methods(trees.values())
-    found = cycle_faults(trees)
+    functions = {
+        node.name: node for tree in trees.values() for node in tree.body if isinstance(node, ast.FunctionDef)
+    }
+    found = cycle_faults(trees) + ["package: " + fault for fault in attribute_faults(list(trees.values()))]
     for module, tree in trees.items():
         faults = text_faults(files[module]) + import_faults(tree, defined) + module_faults(tree)
-        faults += name_faults(tree) + call_faults(tree, own)
+        faults += name_faults(tree) + call_faults(tree, own) + shadow_faults(tree) + count_faults(tree, functions)
         for node in ast.walk(tree):
             faults += expression_faults(node) + statement_faults(node)
             if isinstance(node, ast.FunctionDef):

@@ -2,6 +2,9 @@
 
 import random
 
+from bendfronts.drawings import strands
+from bendfronts.threads import turns
+
 B, C, E = "born", "cross", "end"
 
 LETTERS = {"b": B, "c": C, "e": E}
@@ -22,6 +25,20 @@ EVEN_LINK = "b0 b1 c0 c0 e1 e0"
 THREE_BIRTHS = "b0 b0 b0 e1 e2 e0"
 
 SAMPLES = (EMPTY, ROUND, TREFOIL, ZIGZAG, CURLED, ODD_LINK, EVEN_LINK, THREE_BIRTHS)
+
+
+def written(drawing):
+    """The letters of a drawing, as they are told here."""
+    return " ".join(f"{kind[0]}{k}" for kind, k in drawing)
+
+
+def scales_of(drawing):
+    """The scales that a drawing has."""
+    return (0, 1) if turns(drawing) == [0] else (1,)
+
+
+def has_eight_strands(drawing):
+    return max(strands(drawing)) == 8
 
 
 def letters_at(many):

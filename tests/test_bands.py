@@ -4,13 +4,13 @@ import unittest
 
 from bendfronts import errors
 from bendfronts.bands import band_sum, bandings, is_banding, loose, partners_of
-from bendfronts.drawings import crossings_of, strands
+from bendfronts.drawings import crossings_of
 from bendfronts.heights import name_heights
 from bendfronts.threads import turns
 from byhand import banding_by_hand, bandings_by_hand
 from samples import (
     CURLED, E, EMPTY, EVEN_LINK, ODD_LINK, ROUND, SAMPLES, THREE_BIRTHS, TREFOIL, ZIGZAG,
-    banded_drawings, check_own, greatest_drawings, short_drawings, told,
+    banded_drawings, check_own, greatest_drawings, has_eight_strands, scales_of, short_drawings, told,
 )
 
 # A drawing with both a crossing of height 0 and crossings of other heights.
@@ -18,14 +18,6 @@ MIXED = "b0 b1 c2 c1 c1 c1 c1 e0 e0"
 
 # A drawing that has a banding by the scale 1 that it does not have by the scale 0, changed at heights -1 and 1.
 ONE_MORE = "b0 b2 c1 c1 c1 c2 c2 e1 e0"
-
-
-def scales_of(drawing):
-    return (0, 1) if turns(drawing) == [0] else (1,)
-
-
-def has_eight_strands(drawing):
-    return max(strands(drawing)) == 8
 
 
 def small_drawings():

@@ -14,7 +14,7 @@ from bendfronts.threads import turns
 from byhand import put_out, settings_by_hand
 from samples import (
     CURLED, EMPTY, EVEN_LINK, ODD_LINK, ROUND, SAMPLES, THREE_BIRTHS, TREFOIL, ZIGZAG,
-    banded_drawings, check_own, greatest_drawings, short_drawings, told,
+    banded_drawings, check_own, greatest_drawings, has_eight_strands, scales_of, short_drawings, told,
 )
 
 # Drawings, a scale, and how many settings there are by it.
@@ -55,14 +55,6 @@ TOO_MANY = (
     ("b0 b2" + " c1" * 12 + " e0 e0", 1, 10924),
     ("b0 e0 " * 20, 1, 2 ** 20),
 )
-
-
-def scales_of(drawing):
-    return (0, 1) if turns(drawing) == [0] else (1,)
-
-
-def has_eight_strands(drawing):
-    return max(strands(drawing)) == 8
 
 
 def small_drawings():
