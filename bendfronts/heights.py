@@ -16,13 +16,18 @@ def heights_along(tour, uppers):
     return heights
 
 
+def has_scale(drawing, scale):
+    """Whether a drawing has a scale."""
+    # Of the empty drawing there is no piece, so it does not have the scale 0.
+    return scale == 1 or turns(drawing) == [0]
+
+
 def thread_heights(drawing, scale):
     """The height of each thread."""
+    if not has_scale(drawing, scale):
+        raise NoHeights("the scale 0 is had by drawings of one piece with turns 0 alone")
     if scale == 1:
         return [0] * (2 * len(ends_of(drawing)))
-    # Of the empty drawing there is no piece, so it does not have the scale 0.
-    if turns(drawing) != [0]:
-        raise NoHeights("the scale 0 is had by drawings of one piece with turns 0 alone")
     return heights_along(tours(drawing)[0], uppers_at_ends(drawing))
 
 

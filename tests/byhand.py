@@ -210,3 +210,39 @@ def letters_by_hand(drawing, move):
         }[kind, move[2]]
     k = move[2]
     return 0, [(B, k), (C, k + 1), (E, k)] if move[3] == "above" else [(B, k + 1), (C, k), (E, k + 1)]
+
+
+def all_partners(many):
+    """All lists of partners of so many strands, sorted."""
+    found = []
+    for row in pairs_of(list(range(many))):
+        partners = [0] * many
+        for one, other in row:
+            partners[one], partners[other] = other, one
+        found.append(partners)
+    return sorted(found)
+
+
+def pairs_of(numbers):
+    """All ways to pair off some numbers."""
+    if not numbers:
+        return [[]]
+    found = []
+    for other in numbers[1:]:
+        left = [one for one in numbers[1:] if one != other]
+        found += [[(numbers[0], other)] + row for row in pairs_of(left)]
+    return found
+
+
+def partners_behind(partners, letter, height):
+    """All lists of partners that may come of one by a letter."""
+    kind, k = letter
+    row = [min(pair) for pair in enumerate(partners)]
+    if kind == B:
+        return [partners_in(row[:k] + ["new", "new"] + row[k:])]
+    if (row[k] == row[k + 1]) != (kind == E):
+        return []
+    if kind == E:
+        return [partners_in(row[:k] + row[k + 2:])]
+    found = [partners_in(row[:k] + [row[k + 1], row[k]] + row[k + 2:])]
+    return found + [list(partners)] if height == 0 and not tangled(row, k) else found

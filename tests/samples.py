@@ -3,11 +3,14 @@
 import random
 
 from bendfronts.drawings import strands
+from bendfronts.errors import NoMove
+from bendfronts.moves import moved
 from bendfronts.threads import turns
 
 B, C, E = "born", "cross", "end"
 
 LETTERS = {"b": B, "c": C, "e": E}
+SIDES = ("above", "below")
 
 
 def told(text):
@@ -144,6 +147,43 @@ def banded_drawings(many, births, crossings, fits=lambda drawing: True):
         if drawing is not None and fits(drawing):
             found.append(drawing)
     return found
+
+
+def all_moves(drawing):
+    """All moves that a drawing might have: of each word, with each number."""
+    counts = strands(drawing)
+    for t in range(len(drawing) + 1):
+        for word in ("slide", "three", "pull", "uncurl"):
+            yield word, t
+        for side in SIDES:
+            yield "push", t, side
+            for k in range(counts[t] + 1):
+                yield "curl", t, k, side
+
+
+def drawn_step(chance, drawing):
+    """A move that can be done, and what it leads to; None where there is none."""
+    found = {}
+    for move in all_moves(drawing):
+        try:
+            step = move, moved(drawing, move)
+        except NoMove:
+            continue
+        found.setdefault(move[0], []).append(step)
+    # The word first, so that threes come as often as curls.
+    return chance.choice(found[chance.choice(sorted(found))]) if found else None
+
+
+def drawn_road(chance, drawing, many):
+    """So many drawn moves from a drawing on, and all drawings that come."""
+    moves, drawings = [], [drawing]
+    for step in range(many):
+        found = drawn_step(chance, drawings[-1])
+        if found is None:
+            break
+        moves.append(found[0])
+        drawings.append(found[1])
+    return moves, drawings
 
 
 def lists_within(thing):

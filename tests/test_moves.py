@@ -7,11 +7,10 @@ from bendfronts.drawings import crossings_of, is_drawing, strands
 from bendfronts.moves import moved, moves, way_back
 from byhand import letters_by_hand, slid_by_hand
 from samples import (
-    B, C, CURLED, E, EMPTY, ROUND, SAMPLES, TREFOIL, ZIGZAG,
-    banded_drawings, check_own, greatest_drawings, has_eight_strands, letters_at, short_drawings, told, written,
+    B, C, CURLED, E, EMPTY, ROUND, SAMPLES, SIDES, TREFOIL, ZIGZAG,
+    all_moves, banded_drawings, check_own, greatest_drawings, has_eight_strands, letters_at, short_drawings, told, written,
 )
 
-SIDES = ("above", "below")
 THREES = "b0 b2 c1 c0 c1 c2 c1 c2 e0 e0"
 
 # Rows of the slide at their bounds: two letters, what they become, None where it can't be done.
@@ -58,18 +57,6 @@ def holding(letters, many):
 def held(text):
     """A drawing with these letters where there are as few strands as can be, and the number of the first."""
     return next(found for found in (holding(told(text), many) for many in (0, 2, 4, 6, 8)) if found is not None)
-
-
-def all_moves(drawing):
-    """All moves that a drawing might have: of each word, with each number."""
-    counts = strands(drawing)
-    for t in range(len(drawing) + 1):
-        for word in ("slide", "three", "pull", "uncurl"):
-            yield word, t
-        for side in SIDES:
-            yield "push", t, side
-            for k in range(counts[t] + 1):
-                yield "curl", t, k, side
 
 
 def moved_by_hand(drawing, move):
